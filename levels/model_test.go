@@ -205,6 +205,29 @@ func (w told) arc(s *state.State) bool {
 	return true
 }
 
+// directed asks for what the level FDAC asks beside AC.
+func (w told) directed(s *state.State) bool {
+	for j, scope := range w.scopes {
+		for v := range w.doms[scope[0]].Values() {
+			if w.live[j] && len(scope) == 2 && !w.full(s, j, v) {
+				return false
+			}
+		}
+	}
+	return true
+}
+
+// full asks whether the function j has a free tuple of v at the first place with
+// a value that costs 0 itself.
+func (w told) full(s *state.State, j, v int) bool {
+	for n, x := range tuplesOf(s, w.scopes[j]) {
+		if x[0] == v && w.costs[j][n] == 0 && w.left(w.scopes[j], x) && w.unary[w.scopes[j][1]][x[1]] == 0 {
+			return true
+		}
+	}
+	return false
+}
+
 // someCost is 0, but of every so many: of these K, or beside it, or little, or any.
 func someCost(r *rand.Rand, k int64, many int) int64 {
 	if r.Intn(many) > 0 {
@@ -274,6 +297,54 @@ func someState(t *testing.T, r *rand.Rand) *state.State {
 		}
 	}
 	return s
+}
+
+// somePairs has costs that are little, also beside what Zero is less than the top,
+// mostly of two variables.
+func somePairs(t *testing.T, r *rand.Rand) *state.State {
+	t.Helper()
+	n, k := 2+r.Intn(4), []int64{9, 20, 1000, top}[r.Intn(4)]
+	var sizes strings.Builder
+	for range n {
+		fmt.Fprint(&sizes, " ", 1+r.Intn(5)%3) // mostly more than one
+	}
+	s, many := made(t, fmt.Sprint("t ", n, " 3 0 ", k, sizes.String())), 1+r.Intn(3)
+	little := func([]int) int64 {
+		switch {
+		case r.Intn(many) > 0:
+			return 0
+		case r.Intn(9) == 0:
+			return k
+		}
+		return r.Int63n(7)
+	}
+	if r.Intn(3) == 0 {
+		ok(t, s.SetZero(k-1-r.Int63n(9)))
+	}
+	for i := range n {
+		for v := range s.Net().Size(i) {
+			ok(t, s.SetUnary(i, v, little(nil)))
+		}
+		for j := range i {
+			if r.Intn(5) < 3 {
+				add(t, s, []int{j, i}, little)
+			}
+			if r.Intn(5) == 0 && i < n-1 {
+				add(t, s, []int{j, i, n - 1}, little)
+			}
+		}
+	}
+	return s
+}
+
+// single kills each function whose scope another one has.
+func single(t *testing.T, s *state.State) {
+	t.Helper()
+	for j := range s.Funs() {
+		if s.Live(j) && s.Find(s.Scope(j)) != j {
+			ok(t, s.Kill(j))
+		}
+	}
 }
 
 // play does some moves, whether they are legal or not; seldom it drops, kills or eliminates.

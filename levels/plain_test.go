@@ -5,7 +5,6 @@ import (
 	"slices"
 	"testing"
 
-	"pennyweight/ac"
 	"pennyweight/api"
 	"pennyweight/dom"
 	"pennyweight/nc"
@@ -123,29 +122,82 @@ func (w *told) borne(s *state.State, i, v int) bool {
 	return true
 }
 
+// A value that is left is as good as any other there, so that AC is all that the
+// greater levels ask, too.
 func TestPlainArcOfTop1(t *testing.T) {
-	seen := map[bool]int{}
-	someStates(t, all[1], 6000, func(_ *rand.Rand, s *state.State) {
-		if s.K() != 1 {
-			return
-		}
-		before, want := look(t, s), look(t, s)
-		want.plainArc(s)
-		m := s.Mark()
-		for _, enforce := range []func(s *state.State) api.Errno{ac.Enforce, steps(ac.Once)} {
-			e := enforce(s)
-			if got := look(t, s); e == api.OK && !got.part().equals(want.part()) || (e == api.OK) == want.wiped() {
-				t.Fatalf("error %d, told is\n%v, not\n%v, behind\n%v", e, got, want, before)
+	for _, l := range all[1:] {
+		seen := map[bool]int{}
+		someStates(t, l, 6000, func(_ *rand.Rand, s *state.State) {
+			if s.K() == 1 {
+				l.plainlyOfTop1(t, s, seen)
 			}
-			ok(t, s.Undo(m))
-			s.Mark()
+		})
+		if min(seen[true], seen[false]) < 50 {
+			t.Errorf("%s: so many were wiped, and not: %v", l.name, seen)
 		}
-		if before.wiped() || want.part().equals(before.part()) {
-			return
+	}
+}
+
+func (l level) plainlyOfTop1(t *testing.T, s *state.State, seen map[bool]int) {
+	t.Helper()
+	before, want := look(t, s), look(t, s)
+	want.plainArc(s)
+	for _, enforce := range []func(s *state.State) api.Errno{l.enforce, steps(l.once)} {
+		m := s.Mark()
+		e := enforce(s)
+		if got := look(t, s); e == api.OK && !got.part().equals(want.part()) || (e == api.OK) == want.wiped() {
+			t.Fatalf("%s: error %d, told is\n%v, not\n%v, behind\n%v", l.name, e, got, want, before)
 		}
+		ok(t, s.Undo(m))
+	}
+	if !before.wiped() && !want.part().equals(before.part()) {
 		seen[want.wiped()]++
-	})
-	if min(seen[true], seen[false]) < 50 {
-		t.Errorf("so many were wiped, and not: %v", seen)
+	}
+}
+
+// someTree has of each variable at most one function with a lower one.
+func someTree(t *testing.T, r *rand.Rand) *state.State {
+	t.Helper()
+	n, size := 2+r.Intn(5), 1+r.Intn(3)
+	k := []int64{1, 7, 12, 20, 1000, top}[r.Intn(6)]
+	s, many := bare(t, n, size, k), 1+r.Intn(3)
+	costOf := func([]int) int64 { return min(someCost(r, min(k, 9), many), k) }
+	if r.Intn(6) == 0 {
+		costOf = func([]int) int64 { return someCost(r, k, many) }
+	}
+	for i := range n {
+		for v := range size {
+			ok(t, s.SetUnary(i, v, costOf(nil)))
+		}
+		if i > 0 && r.Intn(9) > 0 {
+			add(t, s, []int{r.Intn(i), i}, costOf)
+		}
+	}
+	return s
+}
+
+// In a tree a value that costs nothing has one of each higher variable that costs
+// nothing with it, and so on: so Zero is the least of all assignments.
+func TestLeastOfTrees(t *testing.T) {
+	r := rand.New(rand.NewSource(18))
+	for _, l := range all[2:] {
+		seen := map[bool]int{}
+		for range 3000 {
+			s := someTree(t, r)
+			before := look(t, s)
+			least := slices.Min(before.vals)
+			for _, enforce := range []func(s *state.State) api.Errno{l.enforce, steps(l.once)} {
+				m := s.Mark()
+				e := enforce(s)
+				if (e == api.OK) != (least < s.K()) || e == api.OK && s.Zero() != least {
+					t.Fatalf("%s: error %d, Zero %d, not %d, of\n%v", l.name, e, s.Zero(), least, before)
+				}
+				ok(t, s.Undo(m))
+			}
+			seen[least < s.K()]++
+		}
+		if min(seen[true], seen[false]) < 300 {
+			t.Errorf("%s: so many can be, and not: %v", l.name, seen)
+		}
 	}
 }

@@ -7,7 +7,6 @@ import (
 	"strings"
 	"testing"
 
-	"pennyweight/ac"
 	"pennyweight/api"
 	"pennyweight/check"
 	"pennyweight/state"
@@ -78,7 +77,40 @@ func TestStepsRoundARing(t *testing.T) {
 			add(t, s, []int{at, at + 1}, func(x []int) int64 { return dear(x[0] > x[1]) })
 		}
 		add(t, s, []int{0, n - 1}, func(x []int) int64 { return dear(x[0] <= x[1]) })
-		all[1].counted(t, s, api.ErrEmpty)
+		for _, l := range all[1:] {
+			m := s.Mark()
+			l.counted(t, s, api.ErrEmpty)
+			ok(t, s.Undo(m))
+		}
+	}
+}
+
+// Of each four variables the first one loses a value by what Zero came to be; so
+// what needs it of the two last ones costs 1 more; each lends it to one value of
+// the second one; and so Zero comes to be greater, by which the first one of the
+// next four loses a value.
+func TestStepsOfManyRounds(t *testing.T) {
+	const fours, size, k = api.MaxVars / 4, api.MaxDomain, 1000
+	sizes := strings.Repeat(fmt.Sprint(" ", size, " 2 2 2"), fours)
+	s := made(t, fmt.Sprint("t ", api.MaxVars, " ", size, " 0 ", k, sizes))
+	for four := range fours {
+		loses, lowered := 4*four, 4*four+1
+		for v := range size - 1 {
+			ok(t, s.SetUnary(loses, v, int64(k-v*fours-four)))
+		}
+		for v := range 2 {
+			lends := lowered + 1 + v
+			add(t, s, []int{loses, lends}, func(x []int) int64 { return int64(x[0] * (1 - x[1])) })
+			add(t, s, []int{lowered, lends}, func(x []int) int64 { return dear((x[0] == v) != (x[1] == 0)) })
+		}
+	}
+	for _, l := range all[2:] {
+		m := s.Mark()
+		l.counted(t, s, api.OK)
+		if want := int64(fours * (size - 1)); s.Zero() != want {
+			t.Errorf("%s: Zero %d, not %d", l.name, s.Zero(), want)
+		}
+		ok(t, s.Undo(m))
 	}
 }
 
@@ -105,6 +137,9 @@ func TestStepsOfManyFunctions(t *testing.T) {
 		for range x.many {
 			scope := r.Perm(s.N())[:x.arity]
 			slices.Sort(scope)
+			if s.Find(scope) >= 0 {
+				continue // of two of one scope not all levels are promised
+			}
 			add(t, s, scope, func(tuple []int) int64 {
 				if slices.Max(tuple) == 0 {
 					return 0
@@ -112,18 +147,24 @@ func TestStepsOfManyFunctions(t *testing.T) {
 				return x.costOf()
 			})
 		}
-		all[1].counted(t, s, api.OK)
+		for _, l := range all[1:] {
+			m := s.Mark()
+			l.counted(t, s, api.OK)
+			ok(t, s.Undo(m))
+		}
 	}
 }
 
 // Of a top of 2^31 costs are counted to the last one.
 func TestGreatTops(t *testing.T) {
-	s := made(t, "t 2 2 3 2147483648 2 2, 0 5 0, 1 0 0 2 0 2147483643 1 1, 2 0 1 2147483640 1 0 0 2147483648")
-	if e := ac.Enforce(s); e != api.OK || s.Zero() != 2147483646 {
-		t.Errorf("error %d, Zero %d", e, s.Zero())
-	}
-	s = made(t, "t 2 2 3 2147483648 2 2, 0 6 0, 1 0 1 2 0 2147483647 1 1, 2 0 1 2147483641 1 0 0 2147483648")
-	if e := ac.Enforce(s); e != api.ErrEmpty {
-		t.Errorf("error %d, Zero %d", e, s.Zero())
+	for _, l := range all[1:] {
+		s := made(t, "t 2 2 3 2147483648 2 2, 0 5 0, 1 0 0 2 0 2147483643 1 1, 2 0 1 2147483640 1 0 0 2147483648")
+		if e := l.enforce(s); e != api.OK || s.Zero() != 2147483646 {
+			t.Errorf("%s: error %d, Zero %d", l.name, e, s.Zero())
+		}
+		s = made(t, "t 2 2 3 2147483648 2 2, 0 6 0, 1 0 1 2 0 2147483647 1 1, 2 0 1 2147483641 1 0 0 2147483648")
+		if e := l.enforce(s); e != api.ErrEmpty {
+			t.Errorf("%s: error %d, Zero %d", l.name, e, s.Zero())
+		}
 	}
 }
