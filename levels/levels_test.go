@@ -10,6 +10,7 @@ import (
 	"pennyweight/api"
 	"pennyweight/check"
 	"pennyweight/dac"
+	"pennyweight/edac"
 	"pennyweight/nc"
 	"pennyweight/state"
 )
@@ -26,6 +27,7 @@ var all = []level{
 	{"nc", check.NC, nc.Enforce, nc.Once},
 	{"ac", check.AC, ac.Enforce, ac.Once},
 	{"dac", check.FDAC, dac.Enforce, dac.Once},
+	{"edac", check.EDAC, edac.Enforce, edac.Once},
 }
 
 // most is how many steps there may be at tops of at most 1000; at others there may be more.
@@ -33,7 +35,8 @@ const most = 30000
 
 // meets asks whether s is of the level.
 func (l level) meets(w told, s *state.State) bool {
-	return w.node() && (l.number < check.AC || w.arc(s)) && (l.number < check.FDAC || w.directed(s))
+	return w.node() && (l.number < check.AC || w.arc(s)) &&
+		(l.number < check.FDAC || w.directed(s)) && (l.number < check.EDAC || w.existential(s))
 }
 
 // keeps holds what was against what is: whatever was done was done by moves of the level.
@@ -188,6 +191,9 @@ func someStates(t *testing.T, l level, many int, each func(r *rand.Rand, s *stat
 		if r.Intn(3) == 0 {
 			s = somePairs(t, r)
 		}
+		if l.number == check.EDAC && r.Intn(2) == 0 {
+			s = someWeb(t, r) // of the others hardly one is FDAC, but not EDAC
+		}
 		if r.Intn(2) == 0 {
 			play(t, r, s)
 		}
@@ -240,25 +246,38 @@ func (l level) whole(t *testing.T, s *state.State, before, now told) {
 			}
 		}
 	}
-	lent := before.node() && before.arc(s)
 	for j, costs := range now.costs {
-		if !slices.Equal(costs, before.costs[j]) && !now.settled(s, j, lent) {
+		if !slices.Equal(costs, before.costs[j]) && !now.settled(s, j, before.lentTo(s, now, j)) {
 			t.Fatalf("%s: of %d too much was moved, or too little: told is\n%v, behind\n%v", l.name, j, now, before)
 		}
 	}
 }
 
-// settled asks whether each value of the function j has a free tuple, those of the
-// lower one, where it was lent to, by one that costs nothing itself. Where a value
-// costs the top already, it may not be so till it goes.
-func (w told) settled(s *state.State, j int, lent bool) bool {
+// lentTo is the place in the function j that a step lent to, or -1: the lower one's,
+// but where these have what they need already.
+func (w told) lentTo(s *state.State, now told, j int) int {
+	switch {
+	case !w.node() || !w.arc(s):
+		return -1
+	case !w.directed(s):
+		return 0
+	}
+	return slices.IndexFunc(w.scopes[j], func(i int) bool {
+		return slices.ContainsFunc(valuesOf(w.doms[i]), func(v int) bool { return now.unary[i][v] > w.unary[i][v] })
+	})
+}
+
+// settled asks whether each value of the function j has a free tuple, those at the
+// place that was lent to by one that costs nothing itself. Where a value costs the
+// top already, it may not be so till it goes.
+func (w told) settled(s *state.State, j, to int) bool {
 	all := true
 	for pos, i := range w.scopes[j] {
 		for v := range w.doms[i].Values() {
 			if w.unary[i][v] == w.k {
 				return true
 			}
-			all = all && w.free(s, j, pos, v) && (!lent || pos > 0 || w.full(s, j, v))
+			all = all && w.free(s, j, pos, v) && (pos != to || w.full(s, j, pos, v))
 		}
 	}
 	return all

@@ -5,6 +5,7 @@ import (
 	"fmt"
 	"math/rand"
 	"reflect"
+	"slices"
 	"strings"
 	"testing"
 
@@ -209,7 +210,7 @@ func (w told) arc(s *state.State) bool {
 func (w told) directed(s *state.State) bool {
 	for j, scope := range w.scopes {
 		for v := range w.doms[scope[0]].Values() {
-			if w.live[j] && len(scope) == 2 && !w.full(s, j, v) {
+			if w.live[j] && len(scope) == 2 && !w.full(s, j, 0, v) {
 				return false
 			}
 		}
@@ -217,16 +218,41 @@ func (w told) directed(s *state.State) bool {
 	return true
 }
 
-// full asks whether the function j has a free tuple of v at the first place with
-// a value that costs 0 itself.
-func (w told) full(s *state.State, j, v int) bool {
+// full asks whether the function j, of two variables, has a free tuple of v at that
+// place with a value that costs 0 itself.
+func (w told) full(s *state.State, j, pos, v int) bool {
+	other := 1 - pos
 	for n, x := range tuplesOf(s, w.scopes[j]) {
-		if x[0] == v && w.costs[j][n] == 0 && w.left(w.scopes[j], x) && w.unary[w.scopes[j][1]][x[1]] == 0 {
+		if x[pos] == v && w.costs[j][n] == 0 && w.left(w.scopes[j], x) && w.unary[w.scopes[j][other]][x[other]] == 0 {
 			return true
 		}
 	}
 	return false
 }
+
+// existential asks for what the level EDAC asks beside FDAC.
+func (w told) existential(s *state.State) bool {
+	for i, d := range w.doms {
+		if !w.gone[i] && !slices.ContainsFunc(valuesOf(d), func(v int) bool { return w.held(s, i, v) }) {
+			return false
+		}
+	}
+	return true
+}
+
+// held asks whether v costs 0, and has what full asks for in each function of i
+// and one other variable.
+func (w told) held(s *state.State, i, v int) bool {
+	for j, scope := range w.scopes {
+		pos := slices.Index(scope, i)
+		if w.live[j] && len(scope) == 2 && pos >= 0 && !w.full(s, j, pos, v) {
+			return false
+		}
+	}
+	return w.unary[i][v] == 0
+}
+
+func valuesOf(d dom.Set) []int { return slices.Collect(d.Values()) }
 
 // someCost is 0, but of every so many: of these K, or beside it, or little, or any.
 func someCost(r *rand.Rand, k int64, many int) int64 {
@@ -331,6 +357,33 @@ func somePairs(t *testing.T, r *rand.Rand) *state.State {
 			}
 			if r.Intn(5) == 0 && i < n-1 {
 				add(t, s, []int{j, i, n - 1}, little)
+			}
+		}
+	}
+	return s
+}
+
+// someWeb has functions of nearly all two variables, mostly of little costs, but few
+// costs of one variable: a value that is free with one neighbour seldom is with all.
+func someWeb(t *testing.T, r *rand.Rand) *state.State {
+	t.Helper()
+	n, k := 3+r.Intn(3), []int64{9, 20, 1000, top}[r.Intn(4)]
+	s := bare(t, n, 2+r.Intn(2), k)
+	little := func([]int) int64 {
+		if r.Intn(3) == 0 {
+			return 0
+		}
+		return []int64{1, 2, 3, k}[r.Intn(4)]
+	}
+	for i := range n {
+		for v := range s.Net().Size(i) {
+			if r.Intn(9) == 0 {
+				ok(t, s.SetUnary(i, v, little(nil)))
+			}
+		}
+		for j := range i {
+			if r.Intn(9) > 0 {
+				add(t, s, []int{j, i}, little)
 			}
 		}
 	}

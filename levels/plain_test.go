@@ -155,8 +155,9 @@ func (l level) plainlyOfTop1(t *testing.T, s *state.State, seen map[bool]int) {
 	}
 }
 
-// someTree has of each variable at most one function with a lower one.
-func someTree(t *testing.T, r *rand.Rand) *state.State {
+// someJoined has costs of each kind, where it has any, and functions of two variables:
+// of each one and its mate, if that is another one.
+func someJoined(t *testing.T, r *rand.Rand, mate func(n, i int) int) *state.State {
 	t.Helper()
 	n, size := 2+r.Intn(5), 1+r.Intn(3)
 	k := []int64{1, 7, 12, 20, 1000, top}[r.Intn(6)]
@@ -169,11 +170,45 @@ func someTree(t *testing.T, r *rand.Rand) *state.State {
 		for v := range size {
 			ok(t, s.SetUnary(i, v, costOf(nil)))
 		}
-		if i > 0 && r.Intn(9) > 0 {
-			add(t, s, []int{r.Intn(i), i}, costOf)
+		if o := mate(n, i); o != i && r.Intn(9) > 0 {
+			add(t, s, []int{min(i, o), max(i, o)}, costOf)
 		}
 	}
 	return s
+}
+
+// someTree has of each variable at most one function with a lower one.
+func someTree(t *testing.T, r *rand.Rand) *state.State {
+	return someJoined(t, r, func(_, i int) int { return r.Intn(max(i, 1)) })
+}
+
+// someStar has functions of one variable, whichever, and each other one.
+func someStar(t *testing.T, r *rand.Rand) *state.State {
+	at := r.Intn(6)
+	return someJoined(t, r, func(n, _ int) int { return at % n })
+}
+
+// leastOf holds Zero against the least of all assignments.
+func (l level) leastOf(t *testing.T, r *rand.Rand, some func(*testing.T, *rand.Rand) *state.State) {
+	t.Helper()
+	seen := map[bool]int{}
+	for range 3000 {
+		s := some(t, r)
+		before := look(t, s)
+		least := slices.Min(before.vals)
+		for _, enforce := range []func(s *state.State) api.Errno{l.enforce, steps(l.once)} {
+			m := s.Mark()
+			e := enforce(s)
+			if (e == api.OK) != (least < s.K()) || e == api.OK && s.Zero() != least {
+				t.Fatalf("%s: error %d, Zero %d, not %d, of\n%v", l.name, e, s.Zero(), least, before)
+			}
+			ok(t, s.Undo(m))
+		}
+		seen[least < s.K()]++
+	}
+	if min(seen[true], seen[false]) < 300 {
+		t.Errorf("%s: so many can be, and not: %v", l.name, seen)
+	}
 }
 
 // In a tree a value that costs nothing has one of each higher variable that costs
@@ -181,23 +216,14 @@ func someTree(t *testing.T, r *rand.Rand) *state.State {
 func TestLeastOfTrees(t *testing.T) {
 	r := rand.New(rand.NewSource(18))
 	for _, l := range all[2:] {
-		seen := map[bool]int{}
-		for range 3000 {
-			s := someTree(t, r)
-			before := look(t, s)
-			least := slices.Min(before.vals)
-			for _, enforce := range []func(s *state.State) api.Errno{l.enforce, steps(l.once)} {
-				m := s.Mark()
-				e := enforce(s)
-				if (e == api.OK) != (least < s.K()) || e == api.OK && s.Zero() != least {
-					t.Fatalf("%s: error %d, Zero %d, not %d, of\n%v", l.name, e, s.Zero(), least, before)
-				}
-				ok(t, s.Undo(m))
-			}
-			seen[least < s.K()]++
-		}
-		if min(seen[true], seen[false]) < 300 {
-			t.Errorf("%s: so many can be, and not: %v", l.name, seen)
-		}
+		l.leastOf(t, r, someTree)
+	}
+}
+
+// So has, in a star, the value in the midst that is free with all.
+func TestLeastOfStars(t *testing.T) {
+	r := rand.New(rand.NewSource(19))
+	for _, l := range all[3:] {
+		l.leastOf(t, r, someStar)
 	}
 }

@@ -114,6 +114,33 @@ func TestStepsOfManyRounds(t *testing.T) {
 	}
 }
 
+// Each assignment of 0 to 3 costs c at least. But it can be gathered only by a cost
+// of 1, which each time comes back to where it was: so it goes to Zero one by one.
+// Each time values of the others go, too.
+func TestStepsOfManyGatherings(t *testing.T) {
+	const k, c = 1000, 900
+	s := made(t, fmt.Sprint("t 64 32 7 ", k, strings.Repeat(" 3", 4), strings.Repeat(" 32", 60),
+		" 1 1 0 1 1 ", c, " 1 2 0 1 2 ", c, " 1 3 0 2 1 ", c, " 2 ", c,
+		" 2 0 3 0 1 2 0 ", k, " 2 1 2 0 2 0 0 ", k, " 0 1 1",
+		" 2 1 3 0 2 2 0 ", k, " 2 2 ", k, " 2 2 3 0 2 1 0 ", k, " 1 1 ", k))
+	for i := 4; i < s.N(); i++ {
+		for v := range s.Net().Size(i) - 1 {
+			ok(t, s.SetUnary(i, v, int64(k-1-v*29-i%29)))
+		}
+		if i%2 > 0 {
+			add(t, s, []int{i - 1, i}, func(x []int) int64 { return dear(x[0] != x[1]) })
+		}
+	}
+	for _, l := range all[3:] {
+		m := s.Mark()
+		l.counted(t, s, api.OK)
+		if s.Zero() != c {
+			t.Errorf("%s: Zero %d, not %d", l.name, s.Zero(), c)
+		}
+		ok(t, s.Undo(m))
+	}
+}
+
 func dear(is bool) int64 {
 	if is {
 		return 1000
